@@ -1,0 +1,1 @@
+"""Learnways: what learners may know when things can be learned in several ways."""

@@ -1,0 +1,48 @@
+"""Promise 1, and the names and arguments of the interface."""
+
+import inspect
+import unittest
+
+from learnways import courses, orders
+from learnways.courses import Course
+from learnways.orders import ready, way_to
+from tests.models import SHORT
+
+METHODS = (
+    "__init__", "ways", "MOST", "__getitem__", "__len__", "__iter__", "__contains__", "__repr__", "__eq__", "__ne__",
+    "__lt__", "__le__", "__gt__", "__ge__", "__and__", "__or__", "__add__", "free", "chain",
+)
+
+FUNCTIONS = {
+    courses: {"after": "(course, state)", "without": "(course, items)"},
+    orders: {
+        "is_order": "(course, value)", "is_state": "(course, value)", "greatest": "(course, avoided=())",
+        "order_of": "(course, state)", "way_to": "(course, gate, item)", "ready": "(course, state)",
+        "lasts": "(course, state)", "state_of": "(course, items)", "plan": "(course, states)",
+    },
+}
+
+
+class Interface(unittest.TestCase):
+    def test_functions_stand_in_their_files(self):
+        for module, functions in FUNCTIONS.items():
+            for name, arguments in functions.items():
+                function = getattr(module, name)
+                self.assertEqual(function.__module__, module.__name__)
+                self.assertEqual(str(inspect.signature(function)), arguments)
+
+    def test_methods_stand_in_the_class_itself(self):
+        for name in METHODS:
+            self.assertIn(name, vars(Course))
+        self.assertEqual(Course.__module__, "learnways.courses")
+
+    def test_example(self):
+        course = Course((((),), ((0,),), ((0,),), ((1,), (2,)), ((3,),)))
+        self.assertEqual(course.ways, SHORT)
+        self.assertEqual((ready(course, (0, 2)), (0, 3) in course), ((1, 3), False))
+        self.assertEqual(way_to(course, (1,), 4), (0, 2, 3, 4))
+        self.assertEqual(repr(course), "Course(5 items, 6 ways)")
+
+
+if __name__ == "__main__":
+    unittest.main()
