@@ -23,6 +23,11 @@ def is_set(value, count):
     return True
 
 
+def is_empty(value):
+    """Whether the value is the empty set."""
+    return isinstance(value, tuple) and len(value) == 0
+
+
 def is_entry(value, item, count):
     """Whether the value is a tuple of ways of the item."""
     if not isinstance(value, tuple):

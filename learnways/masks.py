@@ -78,21 +78,29 @@ def ready_items(book, state):
     ])
 
 
-def first_order(book, state):
-    """The order of the state that has the least possible item at each place."""
+def is_closed(books, avoided, items):
+    """Whether no item but the avoided ones can follow the items in all the books."""
+    for item in items_of(all_items(len(books[0])) ^ (avoided | items)):
+        if can_follow(books, item, items):
+            return False
+    return True
+
+
+def first_order(books, state):
+    """The order of the state, common to all the books, that has the least possible item at each place."""
     order = []
     done = 0
     while done != state:
-        item = least_next(book, done, state)
+        item = least_next(books, done, state)
         order.append(item)
         done = done | (1 << item)
     return tuple(order)
 
 
-def least_next(book, done, state):
+def least_next(books, done, state):
     """The least item of the state that can be learned next, where not the whole state is done."""
     for item in items_of(state ^ done):
-        if has_way(book[item], done):
+        if can_follow(books, item, done):
             return item
     return None
 
@@ -100,33 +108,36 @@ def least_next(book, done, state):
 def states_within(one, other):
     """Whether every state of one book is a state of the other one."""
     # If not, some order of both can be continued by an item in one of them only.
-    whole = all_items(len(one))
     for item, ways in enumerate(one):
         for way in ways:
             # Most ways have a way of the other book within them, and need no search.
-            if has_way(other[item], way):
-                continue
-            if comes_only_in_one(one, other, item, whole ^ (1 << item), way):
+            if not has_way(other[item], way) and gap_between(one, other, item, way) is not None:
                 return False
     return True
 
 
-def comes_only_in_one(one, other, item, allowed, wanted):
-    """Whether some common order of allowed items has all wanted items, but no way of the item in other."""
-    reached = greatest_in((one, other), allowed)
+def gap_between(one, other, item, way):
+    """The items of a common order that the item can follow by its way in one book, but not in the other; or None."""
+    return gap_in((one, other), other[item], all_items(len(one)) ^ (1 << item), way)
+
+
+def gap_in(books, ways, allowed, wanted):
+    """The allowed items of a common order with all wanted ones, but with none of the ways; or None."""
+    reached = greatest_in(books, allowed)
     if not lies_within(wanted, reached):
-        return False
-    rest = shortest_rest(other[item], reached, wanted)
+        return None
+    rest = shortest_rest(ways, reached, wanted)
     if rest is None:
-        return True
+        return reached
     # Such an order lacks an item of that way. Each turn takes the first one that it lacks,
     # so the ones before are wanted, too, and no order is looked for twice.
     held = wanted
     for lacking in rest:
-        if comes_only_in_one(one, other, item, reached ^ (1 << lacking), held):
-            return True
+        gap = gap_in(books, ways, reached ^ (1 << lacking), held)
+        if gap is not None:
+            return gap
         held = held | (1 << lacking)
-    return False
+    return None
 
 
 def shortest_rest(ways, reached, wanted):

@@ -48,19 +48,24 @@ def order_of(course, state):
     """The first order of the items of the state."""
     if state not in course:
         raise NoState("no state of the course")
-    return first_order(course.book, mask_of(state))
+    return first_order((course.book,), mask_of(state))
 
 
 def way_to(course, gate, item):
     """An order without items of the gate that leads to the item, or None if there is none."""
-    if not is_set(gate, len(course)):
-        raise NoSet("no set of items of the course")
-    if not is_item(item, len(course)) or item in gate:
-        raise NoItem("no item of the course outside the gate")
+    check_gate(course, gate, item)
     order = order_of(course, greatest(course, gate))
     if item not in order:
         return None
     return needed_steps(course.book, order, item)
+
+
+def check_gate(course, gate, item):
+    """Refuses what is no set of items, or no item outside of it."""
+    if not is_set(gate, len(course)):
+        raise NoSet("no set of items of the course")
+    if not is_item(item, len(course)) or item in gate:
+        raise NoItem("no item of the course outside the gate")
 
 
 def needed_steps(book, order, item):

@@ -110,6 +110,20 @@ def courses(seed, many, most=6, least=1):
     return [Course(ways) for ways in books(seed, many, most, least)]
 
 
+def layered(seed, many, most=6, least=2):
+    """Courses in which each item can be learned, most of them after lower ones only."""
+    rng = random.Random(seed)
+    found = []
+    for _ in range(many):
+        n = rng.randint(least, most)
+        found.append(Course(tuple(
+            tuple(random_way(rng, list(range(item)), 3) or ((item - 1,) if item > 1 else ())
+                  for _ in range(rng.randint(1, 3)))
+            for item in range(n)
+        )))
+    return found
+
+
 def odd_values(course):
     """Values that are neither items nor sets of items nor courses."""
     n = len(course)

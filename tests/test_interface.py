@@ -1,10 +1,14 @@
-"""Promise 1, and the names and arguments of the interface."""
+"""Promise 1, the examples of README.md, and the names and arguments of the interface."""
 
+import doctest
 import inspect
 import unittest
+from pathlib import Path
 
-from learnways import courses, orders
+from learnways import answers, comparing, courses, needs, orders, slips
+from learnways.answers import sure
 from learnways.courses import Course
+from learnways.needs import verdict
 from learnways.orders import ready, way_to
 from tests.models import SHORT
 
@@ -20,6 +24,17 @@ FUNCTIONS = {
         "order_of": "(course, state)", "way_to": "(course, gate, item)", "ready": "(course, state)",
         "lasts": "(course, state)", "state_of": "(course, items)", "plan": "(course, states)",
     },
+    needs: {
+        "verdict": "(course, gate, item)", "is_verdict": "(course, gate, item, value)",
+        "is_gate": "(course, gate, item)", "gates": "(course, item)",
+    },
+    answers: {
+        "fitting": "(course, yes, no)", "sure": "(course, yes, no)", "reason": "(course, yes, no, item)",
+        "is_reason": "(course, yes, no, item, value)", "reach": "(course, yes, no, item)",
+        "is_tree": "(course, avoided, wanted, item, value)",
+    },
+    slips: {"fewest_wrong": "(course, yes, no)", "is_case_tree": "(course, yes, no, k, value)"},
+    comparing: {"compared": "(one, other)", "is_comparison": "(one, other, value)"},
 }
 
 
@@ -40,8 +55,17 @@ class Interface(unittest.TestCase):
         course = Course((((),), ((0,),), ((0,),), ((1,), (2,)), ((3,),)))
         self.assertEqual(course.ways, SHORT)
         self.assertEqual((ready(course, (0, 2)), (0, 3) in course), ((1, 3), False))
+        self.assertEqual(verdict(course, (1,), 4), ("free", (0, 2, 3, 4)))
+        self.assertEqual(verdict(course, (1, 2), 4), ("needed", (0,)))
+        self.assertEqual(sure(course, (4,), (1,)), ((0, 2, 3, 4), (1,), ()))
         self.assertEqual(way_to(course, (1,), 4), (0, 2, 3, 4))
         self.assertEqual(repr(course), "Course(5 items, 6 ways)")
+
+    def test_readme(self):
+        text = (Path(__file__).resolve().parent.parent / "README.md").read_text().replace("```", "")
+        examples = doctest.DocTestParser().get_doctest(text, {}, "README.md", None, 0)
+        self.assertGreater(len(examples.examples), 15)
+        self.assertEqual(doctest.DocTestRunner().run(examples).failed, 0)
 
 
 if __name__ == "__main__":

@@ -99,7 +99,7 @@ class Language(unittest.TestCase):
                 self.assertNotIn(name, BARRED_NAMES, where)
                 if name.startswith("__"):
                     self.assertIn(name, DUNDERS, where)
-                elif hasattr(builtins, name) and not isinstance(node, ast.Attribute):
+                elif name != "_" and hasattr(builtins, name) and not isinstance(node, ast.Attribute):
                     self.assertIn(name, BUILTINS, where)
                     self.assertIsInstance(node, ast.Name, where)
                     self.assertIsInstance(node.ctx, ast.Load, where)
