@@ -5,7 +5,7 @@ from learnways.errors import Clash, NoAnswers, NoItem, NoSet
 from learnways.masks import all_items, gap_in, greatest_in, has_way, items_of, lies_within, mask_of
 from learnways.needs import shuts_out
 from learnways.orders import greatest
-from learnways.trees import is_short, is_tree_for, tree_for
+from learnways.trees import is_loose, is_short, is_tree_for, tree_for
 
 
 def check_answers(course, yes, no):
@@ -58,12 +58,21 @@ def greatest_fit(course, no, item):
 def sure(course, yes, no):
     """The sets of the items that are in all states that fit, in none of them, and in some of them only."""
     check_fit(course, yes, no)
+    return parted(course, yes, no)
+
+
+def parted(course, yes, no):
+    """The same, where the answers fit some state."""
     state = greatest(course, no)
-    wanted = mask_of(yes)
-    certain = [item for item in state if not lies_within(wanted, greatest_fit(course, no, item))]
+    rest = open_items(course.book, mask_of(yes), mask_of(state))
+    certain = [item for item in state if item not in rest]
     out = [item for item in range(len(course)) if item not in state]
-    rest = [item for item in state if item not in certain]
-    return (tuple(certain), tuple(out), tuple(rest))
+    return (tuple(certain), tuple(out), rest)
+
+
+def open_items(book, wanted, reached):
+    """The set of the open items, where wanted is yes, and reached is the greatest state that fits."""
+    return tuple([item for item in items_of(reached) if is_loose((book,), wanted, reached, item)])
 
 
 def reason(course, yes, no, item):
@@ -131,16 +140,25 @@ def is_fit(course, yes, no, value):
 def reach(course, yes, no, item):
     """Whether the item is within reach of all states that fit, of some or of none, and what shows it."""
     check_question(course, yes, no, item)
-    books = (course.book,)
+    state = greatest(course, no)
+    reached = mask_of(state)
     ways = course.book[item]
-    allowed = all_items(len(course)) ^ mask_of(no)
-    reached = greatest_in(books, allowed)
     if not has_way(ways, reached):
-        return ("never", items_of(reached))
-    gap = gap_in(books, ways, allowed, mask_of(yes))
+        return ("never", state)
+    gap = gap_at(course, yes, no, item)
     if gap is not None:
-        return ("sometimes", items_of(reached), items_of(gap))
-    return ("always", tree_for(books, ways, mask_of(yes), allowed, {}))
+        return ("sometimes", state, items_of(gap))
+    return ("always", tree_for((course.book,), ways, mask_of(yes), reached, {}))
+
+
+def gap_at(course, yes, no, item):
+    """Some state that fits and has not the item within reach, as an integer, or None."""
+    return gap_in((course.book,), course.book[item], all_items(len(course)) ^ mask_of(no), mask_of(yes))
+
+
+def is_always(course, yes, no, item):
+    """Whether the item is within reach of all states that fit, where some state fits."""
+    return gap_at(course, yes, no, item) is None
 
 
 def is_tree(course, avoided, wanted, item, value):

@@ -5,17 +5,29 @@ import inspect
 import unittest
 from pathlib import Path
 
-from learnways import answers, comparing, courses, needs, orders, slips
+from learnways import answers, comparing, counting, courses, needs, orders, slips, texts, timing
 from learnways.answers import sure
 from learnways.courses import Course
 from learnways.needs import verdict
 from learnways.orders import ready, way_to
+from learnways.tutors import Tutor
 from tests.models import SHORT
 
-METHODS = (
-    "__init__", "ways", "MOST", "__getitem__", "__len__", "__iter__", "__contains__", "__repr__", "__eq__", "__ne__",
-    "__lt__", "__le__", "__gt__", "__ge__", "__and__", "__or__", "__add__", "free", "chain",
-)
+METHODS = {
+    Course: (
+        "__init__", "ways", "MOST", "__getitem__", "__len__", "__iter__", "__contains__", "__repr__", "__eq__", "__ne__",
+        "__lt__", "__le__", "__gt__", "__ge__", "__and__", "__or__", "__add__", "free", "chain",
+    ),
+    Tutor: (
+        "__init__", "course", "yes", "no", "deeds", "answer", "undo", "__iadd__", "__isub__", "__getitem__", "trial",
+        "next_lesson", "twin", "__len__", "__iter__", "__contains__", "__eq__", "__ne__",
+    ),
+}
+
+ARGUMENTS = {
+    Course: "(ways)", Course.free: "(n)", Course.chain: "(n)", Tutor: "(course)", Tutor.answer: "(self, item, knows)",
+    Tutor.undo: "(self)", Tutor.trial: "(self, deed)", Tutor.next_lesson: "(self)", Tutor.twin: "(self)",
+}
 
 FUNCTIONS = {
     courses: {"after": "(course, state)", "without": "(course, items)"},
@@ -35,6 +47,13 @@ FUNCTIONS = {
     },
     slips: {"fewest_wrong": "(course, yes, no)", "is_case_tree": "(course, yes, no, k, value)"},
     comparing: {"compared": "(one, other)", "is_comparison": "(one, other, value)"},
+    timing: {"timetable": "(course, durations)", "is_timetable": "(course, durations, value)"},
+    counting: {
+        "states": "(course)", "number_of_states": "(course)", "number_of_orders": "(course)",
+        "order_at": "(course, place)", "place_of": "(course, order)", "best_question": "(course, yes, no)",
+        "questions": "(course)", "is_question_tree": "(course, yes, no, value)",
+    },
+    texts: {"text_of": "(course, names)", "course_of": "(text)"},
 }
 
 
@@ -47,9 +66,17 @@ class Interface(unittest.TestCase):
                 self.assertEqual(str(inspect.signature(function)), arguments)
 
     def test_methods_stand_in_the_class_itself(self):
-        for name in METHODS:
-            self.assertIn(name, vars(Course))
-        self.assertEqual(Course.__module__, "learnways.courses")
+        for owner, names in METHODS.items():
+            for name in names:
+                self.assertIn(name, vars(owner))
+        self.assertEqual((Course.__module__, Tutor.__module__), ("learnways.courses", "learnways.tutors"))
+
+    def test_arguments_of_classes_and_methods(self):
+        for call, arguments in ARGUMENTS.items():
+            self.assertEqual(str(inspect.signature(call)), arguments)
+        for owner, names in ((Course, ("ways",)), (Tutor, ("course", "yes", "no", "deeds"))):
+            for name in names:
+                self.assertIsInstance(vars(owner)[name], property)
 
     def test_example(self):
         course = Course((((),), ((0,),), ((0,),), ((1,), (2,)), ((3,),)))

@@ -130,8 +130,32 @@ class Language(unittest.TestCase):
                     self.assertIn(node.func.attr, VALUE_METHODS | own | {"__init__"}, where)
                 elif node.func.id in ("sorted", "min", "max"):
                     # Courses have an order, so what is sorted must plainly be numbers.
-                    self.assertIsInstance(node.args[0], ast.ListComp, where)
-                    self.assertIn(node.args[0].elt.func.id, ("int", "len"), where)
+                    for part in node.args:
+                        number = part.elt if isinstance(part, ast.ListComp) else part
+                        self.assertIn(number.func.id, ("int", "len"), where)
+
+    def test_generators(self):
+        own = [node for tree in trees().values() for node in ast.walk(tree) if isinstance(node, ast.FunctionDef)]
+        grown = [node.name for node in own
+                 if any(isinstance(part, (ast.Yield, ast.YieldFrom)) for part in ast.walk(node))]
+        self.assertEqual(grown, ["states"])
+        self.assertEqual([node.name for node in own].count("states"), 1)
+        for path, tree in trees().items():
+            at_once = [node.iter for node in ast.walk(tree) if isinstance(node, (ast.For, ast.comprehension))]
+            at_once += [node.args[0] for node in ast.walk(tree)
+                        if isinstance(node, ast.Call) and getattr(node.func, "id", "") in ("list", "tuple")]
+            for node in ast.walk(tree):
+                if isinstance(node, ast.Call) and getattr(node.func, "id", "") in grown:
+                    self.assertIn(node, at_once, (path, node.lineno))
+
+    def test_what_is_done_in_any_case(self):
+        for path, tree in trees().items():
+            for node in ast.walk(tree):
+                if isinstance(node, ast.Try):
+                    self.assertEqual(node.handlers, [], (path, node.lineno))
+                    for row in node.finalbody:
+                        self.assertIsInstance(row, ast.Assign, (path, row.lineno))
+                        self.assertIsInstance(row.value, ast.Name, (path, row.lineno))
 
     def test_methods_of_classes(self):
         for path, tree in trees().items():
